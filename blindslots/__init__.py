@@ -1,0 +1,1 @@
+"""Blindslots: schedulers that do not know how long a job runs."""

@@ -1,0 +1,1 @@
+"""The tests of blindslots; run them with `.ci/run`."""
