@@ -18,9 +18,18 @@ def check_jobs(jobs):
 def arrived(jobs, moment, finished):
     """Return how many jobs have arrived by the moment, with so many jobs finished."""
     check_jobs(jobs)
-    reached = {"at": moment, "after": finished}
-    arrivals = [job[1] for job in jobs]
-    return len([kind for kind, number in arrivals if number <= reached[kind]])
+    return count_arrived(jobs, moment, finished)
+
+
+def count_arrived(jobs, moment, finished):
+    """Return how many of these valid jobs have arrived by the moment."""
+    return len([job for job in jobs if has_arrived(job, moment, finished)])
+
+
+def has_arrived(job, moment, finished):
+    """Tell whether a valid job has arrived by the moment."""
+    kind, number = job[1]
+    return number <= (moment if kind == "at" else finished)
 
 
 def check_each_job(jobs):

@@ -8,6 +8,9 @@ ODD_VALUES = (
     (), (None,), ("at",), ("at", 0), ("queue", 1), (1, 2, 3), ((("a",),),),
     [], [None], ["a"], ["at", 0], ["queue", 1], [1, 2, 3], [[["a"]]], ([], ()), [(), []],
 )
+NOT_A_TUPLE = (None, True, False, 0, 1, -1, 10 ** 30, "", "a", "abc", [], [None], [1, 2], [(1, 1)], [[1, 1]])
+# No integers from 1 on.
+NO_COUNTS = (0, -1, -(10 ** 30), True, False, None, "", "1", (), (1,), [], [1])
 
 
 class Checks(unittest.TestCase):
@@ -25,6 +28,18 @@ class Checks(unittest.TestCase):
         self.assertIs(type(caught.exception), error)
         self.check_same(getattr(caught.exception, field), value)
         self.assertEqual(repr(arguments) + repr(more), before)
+
+    def check_order(self, function, right, faults):
+        """The call names the first of the wrong arguments, whatever is wrong behind it.
+
+        `right` has all arguments by name; a fault is a triple of a name, a wrong value for it,
+        and the error that the call raises. The place of each fault is 1.
+        """
+        function(**right)
+        for k, (name, wrong, error) in enumerate(faults):
+            self.check_fault(error, "place", 1, function, **{**right, name: wrong})
+            behind = {other: value for other, value, _ in faults[k:]}
+            self.check_fault(error, "place", 1, function, **{**right, **behind})
 
 
 def with_item(rows, place, item):
