@@ -38,6 +38,11 @@ class Course:
         board.end_units(units, finishing)
         self.let_in()
 
+    def go_to(self, moment):
+        """Run up to this moment; no job finishes on the way."""
+        while self.board.now < moment:
+            self.go_on(min(self.ends() + [moment - self.board.now]), ())
+
     def stretches(self):
         """Return the stretches so far, as long as possible."""
         return joined(self.pieces)
@@ -66,11 +71,13 @@ def course_by_lengths(jobs, lengths, rule, processors):
 def course_by_marks(jobs, marks, rule, processors):
     """Return the whole course in which the jobs finish at these marks, which are right."""
     course = Course(jobs, rule, processors)
-    board = course.board
     for unit, places in marks:
-        while board.now < unit:
-            running = board.running()
-            units = min(course.ends() + [unit - board.now])
-            finishing = places if board.now + units == unit else ()
-            course.go_on(units, [running[place] for place in finishing])
+        course.go_to(unit - 1)
+        running = course.board.running()
+        course.go_on(1, [running[place] for place in places])
     return course
+
+
+def lengths_in(jobs, course):
+    """Return the lengths that the jobs have in a whole course."""
+    return tuple([course.board.ran[job[0]] for job in jobs])

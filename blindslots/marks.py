@@ -3,7 +3,7 @@
 from itertools import combinations
 from math import comb
 
-from blindslots.courses import checked_course, course_by_lengths, course_by_marks
+from blindslots.courses import checked_course, course_by_lengths, course_by_marks, lengths_in
 from blindslots.errors import NoMarks, NoNumber
 from blindslots.jobs import check_jobs
 from blindslots.kinds import is_integer, is_tuple_of
@@ -91,8 +91,7 @@ def marks_in(course):
 
 def marks_to_lengths(jobs, marks, rule, processors):
     """Return the lengths of right marks."""
-    course = course_by_marks(jobs, marks, rule, processors)
-    return tuple([course.board.ran[job[0]] for job in jobs])
+    return lengths_in(jobs, course_by_marks(jobs, marks, rule, processors))
 
 
 def places_of(running, leaving):

@@ -3,12 +3,15 @@
 import inspect
 import unittest
 
-from blindslots import bench, logs, marks, runs
+from blindslots import bench, console, counts, jobs, logs, marks, named, robin, rules, runs, texts
 from tests.checks import Checks
 
 FIRST = "rule=((('queue', None),), None), processors=1"
 BOTH = "rule, other, processors=1"
 SIGNATURES = {
+    rules: {"check_rule": "(rule)"},
+    jobs: {"check_jobs": "(jobs)", "arrived": "(jobs, moment, finished)"},
+    texts: {"show_jobs": "(jobs)", "show_rule": "(rule)", "read_jobs": "(text)", "read_rule": "(text)"},
     logs: {
         "presence": "(jobs, log)",
         "first_fault": "(jobs, log, *, processors=1)",
@@ -30,7 +33,27 @@ SIGNATURES = {
         "cycle": f"(jobs, lengths, *, {BOTH})",
         "parting": f"(jobs, marks, *, {BOTH})",
     },
+    named: {
+        "names_of": f"(jobs, lengths, *, {FIRST})",
+        "lengths_from_names": f"(jobs, named, *, {FIRST})",
+        "fitting": "(jobs, named, rules, *, processors=1)",
+    },
+    counts: {
+        "count_within": "(jobs, last, *, processors=1)",
+        "count_kth": "(jobs, k, unit, last, *, processors=1)",
+        "count_sums": "(jobs, last, *, processors=1)",
+        "count_logs": "(jobs, last, *, processors=1)",
+        "nth_log": "(jobs, last, number, *, processors=1)",
+        "number_of_log": "(jobs, log, last, *, processors=1)",
+    },
+    robin: {
+        "robin_units": "(lengths)",
+        "robin_order": "(lengths)",
+        "least_lengths": "(order)",
+        "count_robin": "(order, total)",
+    },
     bench: {"Bench": "(rule, *, processors=1)"},
+    console: {"Console": "()"},
 }
 METHODS = {
     "arrive": "(self, name, *, entry=0)", "end_unit": "(self, finishing=())", "undo": "(self)",
@@ -51,6 +74,12 @@ class InterfaceTest(Checks):
         for name, signature in METHODS.items():
             found = vars(bench.Bench)[name]
             self.assertEqual(str(inspect.signature(found)), signature)
+        self.assertEqual(str(inspect.signature(vars(console.Console)["ask"])), "(self, line)")
+
+    def test_rules(self):
+        self.check_same(rules.FIRST_COME, ((("queue", None),), None))
+        self.check_same(rules.LAST_COME, ((("stack", None),), None))
+        self.check_same(rules.ROUND_ROBIN, ((("queue", 1),), None))
 
 
 if __name__ == "__main__":
