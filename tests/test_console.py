@@ -262,8 +262,8 @@ class ConsoleTest(Checks):
 
     def test_wrong_rule(self):
         for text, row in (("", 0), (" ", 0), ("queue 0", 0), ("queue;", 1), (";queue", 0), ("boost 3", 0),
-                          ("boost 3;queue", 0), ("queue;boost 0", 1), ("queue;boost 2;stack", 2), ("queue;boost 2;boost 2", 2),
-                          ("heap", 0), ("queue 01", 0), ("queue ", 0), ("queue 1 1", 0),
+                          ("boost 3;queue", 0), ("queue;boost 0", 1), ("queue;boost 2;stack", 2),
+                          ("queue;boost 2;boost 2", 2), ("heap", 0), ("queue 01", 0), ("queue ", 0), ("queue 1 1", 0),
                           ("queue;queue;queue;queue;queue;queue;queue", 6),
                           ("queue 1" + LONGEST, 0), ("stack  1", 0), ("queue 1;stack x;boost", 1)):
             self.check_error(self.console, NoText, "rule " + text, "row", row)
